@@ -7,40 +7,10 @@ import (
 
 	"relucert/api"
 	"relucert/natural"
+	"relucert/sample"
 )
 
 const most = 1<<32 - 1
-
-// random is a small generator with a fixed sequence.
-type random uint64
-
-func (r *random) next() uint64 {
-	x := uint64(*r)
-	x ^= x << 13
-	x ^= x >> 7
-	x ^= x << 17
-	*r = random(x)
-	return x
-}
-
-// number returns a number of n limbs, many of which are extreme.
-func (r *random) number(n int) api.Nat {
-	out := make(api.Nat, n)
-	for i := range out {
-		switch r.next() >> 20 % 4 {
-		case 0:
-			out[i] = 0
-		case 1:
-			out[i] = most
-		default:
-			out[i] = uint32(r.next() >> 16)
-		}
-	}
-	if n > 0 && out[n-1] == 0 {
-		out[n-1] = 1 + uint32(r.next()>>40)
-	}
-	return out
-}
 
 // edges returns the numbers at which carries, borrows and estimates are at their limits.
 func edges() []api.Nat {
@@ -55,9 +25,9 @@ func edges() []api.Nat {
 // numbers returns the edges and some more numbers.
 func numbers() []api.Nat {
 	out := edges()
-	r := random(88172645463325252)
+	r := sample.Random(88172645463325252)
 	for i := range 40 {
-		out = append(out, r.number(1+i%8))
+		out = append(out, r.Nat(1+i%8))
 	}
 	return out
 }

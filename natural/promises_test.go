@@ -6,6 +6,7 @@ import (
 
 	"relucert/api"
 	"relucert/natural"
+	"relucert/sample"
 )
 
 // triples calls test for many lists of three numbers.
@@ -16,9 +17,9 @@ func triples(test func(a, b, c api.Nat)) {
 			test(a, b, list[(3*i+7*j)%len(list)])
 		}
 	}
-	r := random(362436069)
+	r := sample.Random(362436069)
 	for i := range 500 {
-		test(r.number(i%9), padded(r.number(i%7)), r.number(i%11))
+		test(r.Nat(i%9), padded(r.Nat(i%7)), r.Nat(i%11))
 	}
 }
 
@@ -110,8 +111,8 @@ func TestGcdDivides(t *testing.T) {
 
 // P1: the calls terminate for numbers far beyond those of the other tests.
 func TestLargeNumbers(t *testing.T) {
-	r := random(521288629)
-	a, b := r.number(6000), r.number(5000)
+	r := sample.Random(521288629)
+	a, b := r.Nat(6000), r.Nat(5000)
 	q, rest := divMod(t, a, b)
 	equal(t, "q b + r", natural.Add(natural.Mul(q, b), rest), a)
 	if natural.Cmp(rest, b) >= 0 {

@@ -8,6 +8,7 @@ import (
 
 	"relucert/api"
 	"relucert/natural"
+	"relucert/sample"
 )
 
 // The tests of this file belong to P1.1: every function returns the specified result.
@@ -124,8 +125,8 @@ func testShift(t *testing.T, a api.Nat, k int) {
 }
 
 func TestShiftLimits(t *testing.T) {
-	r := random(2463534242)
-	large := r.number(api.MaxShift/32 + 3)
+	r := sample.Random(2463534242)
+	large := r.Nat(api.MaxShift/32 + 3)
 	for _, a := range []api.Nat{nil, {0}, {1}, {most, 7}, large} {
 		for _, k := range []int{0, api.MaxShift - 1, api.MaxShift} {
 			testShift(t, a, k)
@@ -153,9 +154,9 @@ func TestDivisionEstimates(t *testing.T) {
 	} {
 		testPair(t, x.a, x.b)
 	}
-	r := random(123456789)
+	r := sample.Random(123456789)
 	for i := range 3000 {
-		b, q := r.number(2+i%4), r.number(1+i%5)
+		b, q := r.Nat(2+i%4), r.Nat(1+i%5)
 		// Just below a multiple of the divisor, an estimate is most easily too great.
 		multiple := natural.Mul(b, natural.Add(q, natural.Of(1)))
 		testPair(t, multiple, b)
