@@ -56,12 +56,7 @@ func magnitudes() []api.Nat {
 
 // magnitude returns the number of limbs, by the definition.
 func magnitude(n api.Nat) *big.Int {
-	v := new(big.Int)
-	for _, limb := range slices.Backward(n) {
-		v.Lsh(v, 32)
-		v.Or(v, new(big.Int).SetUint64(uint64(limb)))
-	}
-	return v
+	return new(big.Int).SetBytes(sample.Bytes(n))
 }
 
 // value returns a canonical number, by the definition.

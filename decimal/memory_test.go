@@ -6,28 +6,20 @@ import (
 
 	"relucert/api"
 	"relucert/decimal"
+	"relucert/sample"
 )
-
-// spare returns limbs with capacity behind them that contains other limbs.
-func spare(n api.Nat) api.Nat {
-	return append(slices.Clone(n), 11, 12, 13)[:len(n)]
-}
-
-// memory returns a copy of all the memory of limbs, with the spare capacity.
-func memory(n api.Nat) api.Nat {
-	return slices.Clone(n[:cap(n)])
-}
 
 // Arguments are not modified, including the spare capacity of slices (rule 5), and a second call returns the same (rule 6).
 func TestArgumentsAndState(t *testing.T) {
 	for _, x := range numbers() {
-		x.Num, x.Den = spare(x.Num), spare(x.Den)
-		num, den := memory(x.Num), memory(x.Den)
+		x.Num, x.Den = sample.Spare(x.Num), sample.Spare(x.Den)
+		arguments := []api.Nat{x.Num, x.Den}
+		before := sample.Copies(arguments)
 		text, places := decimal.Text(x), fixed(t, x, 12)
 		if decimal.Text(x) != text || fixed(t, x, 12) != places {
 			t.Errorf("a second call for %v returns something else", x)
 		}
-		if !slices.Equal(num, memory(x.Num)) || !slices.Equal(den, memory(x.Den)) {
+		if !sample.Same(arguments, before) {
 			t.Errorf("an argument was modified: %v", x)
 		}
 	}
@@ -39,23 +31,15 @@ func TestParsedNumbersAreNewMemory(t *testing.T) {
 	for _, s := range texts {
 		first, second := parsed(t, s), parsed(t, s)
 		want := api.Rat{Neg: first.Neg, Num: slices.Clone(first.Num), Den: slices.Clone(first.Den)}
-		overwrite(first.Num)
+		sample.Overwrite(first.Num)
 		if !slices.Equal(first.Den, want.Den) {
 			t.Errorf("the parts of the number of %q share memory", s)
 		}
-		overwrite(first.Den)
+		sample.Overwrite(first.Den)
 		decimal.Parse("12x")
 		decimal.Parse("99/98")
 		if !same(second, want) || !same(parsed(t, s), want) {
 			t.Errorf("a call changes the number of %q", s)
 		}
-	}
-}
-
-// overwrite changes all the memory of a slice.
-func overwrite(n api.Nat) {
-	n = n[:cap(n)]
-	for i := range n {
-		n[i] ^= 0x5a5a5a5a
 	}
 }

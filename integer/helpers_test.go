@@ -57,11 +57,7 @@ func padded(x api.Int) api.Int {
 
 // value returns a number by its definition.
 func value(x api.Int) *big.Int {
-	bytes := make([]byte, 0, 4*len(x.Mag))
-	for _, l := range slices.Backward(x.Mag) {
-		bytes = append(bytes, byte(l>>24), byte(l>>16), byte(l>>8), byte(l))
-	}
-	v := new(big.Int).SetBytes(bytes)
+	v := new(big.Int).SetBytes(sample.Bytes(x.Mag))
 	if x.Neg {
 		v.Neg(v)
 	}

@@ -6,6 +6,7 @@ import (
 
 	"relucert/api"
 	"relucert/integer"
+	"relucert/sample"
 )
 
 // calls calls all functions and returns the numbers that they return.
@@ -18,23 +19,19 @@ func calls(a, b api.Int) []api.Int {
 	return []api.Int{integer.Make(a.Neg, a.Mag), integer.Neg(a), integer.Add(a, b), integer.Sub(a, b), integer.Mul(a, b), q, r}
 }
 
-// spare returns a number in a slice with capacity behind it that contains other limbs.
-func spare(x api.Int) api.Int {
-	x.Mag = append(slices.Clone(x.Mag), 11, 12, 13)[:len(x.Mag)]
-	return x
-}
-
 // Arguments are not modified, including the spare capacity of slices (rule 5), and a second call returns the same (rule 6).
 func TestArgumentsAndState(t *testing.T) {
 	for _, x := range numbers() {
 		for _, y := range numbers() {
-			a, b := spare(x), spare(y)
-			allA, allB := slices.Clone(a.Mag[:cap(a.Mag)]), slices.Clone(b.Mag[:cap(b.Mag)])
+			a, b := x, y
+			a.Mag, b.Mag = sample.Spare(x.Mag), sample.Spare(y.Mag)
+			arguments := []api.Nat{a.Mag, b.Mag}
+			before := sample.Copies(arguments)
 			first := calls(a, b)
 			for i, n := range calls(a, b) {
 				equal(t, "second call", n, first[i])
 			}
-			if !slices.Equal(a.Mag[:cap(a.Mag)], allA) || !slices.Equal(b.Mag[:cap(b.Mag)], allB) {
+			if !sample.Same(arguments, before) {
 				t.Fatalf("an argument was modified: %v, %v", a, b)
 			}
 		}

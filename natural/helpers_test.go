@@ -39,11 +39,7 @@ func padded(n api.Nat) api.Nat {
 
 // value returns the number of a slice by its definition.
 func value(n api.Nat) *big.Int {
-	bytes := make([]byte, 0, 4*len(n))
-	for _, x := range slices.Backward(n) {
-		bytes = append(bytes, byte(x>>24), byte(x>>16), byte(x>>8), byte(x))
-	}
-	return new(big.Int).SetBytes(bytes)
+	return new(big.Int).SetBytes(sample.Bytes(n))
 }
 
 // expect checks that a result is canonical and denotes a number.

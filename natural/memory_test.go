@@ -1,11 +1,11 @@
 package natural_test
 
 import (
-	"slices"
 	"testing"
 
 	"relucert/api"
 	"relucert/natural"
+	"relucert/sample"
 )
 
 // calls returns the results of all functions that return numbers.
@@ -21,50 +21,25 @@ func calls(a, b api.Nat) [][]api.Nat {
 	}
 }
 
-// spare returns a number in a slice with capacity behind it that contains other limbs.
-func spare(n api.Nat) api.Nat {
-	return append(slices.Clone(n), 11, 12, 13)[:len(n)]
-}
-
-// overwrite changes all the memory of a result.
-func overwrite(n api.Nat) {
-	n = n[:cap(n)]
-	for i := range n {
-		n[i] ^= 0x5a5a5a5a
-	}
-}
-
 // Arguments are not modified, and results share no memory with them, nor with each other (section Definitions, and rule 5).
 func TestMemory(t *testing.T) {
 	for _, x := range numbers() {
 		for _, y := range edges() {
-			a, b := spare(x), spare(y)
-			allA, allB := slices.Clone(a[:cap(a)]), slices.Clone(b[:cap(b)])
+			a, b := sample.Spare(x), sample.Spare(y)
+			arguments := []api.Nat{a, b}
+			before := sample.Copies(arguments)
 			for _, results := range calls(a, b) {
-				testResults(t, results)
+				if sample.Shared(results) {
+					t.Errorf("results for %v and %v share memory", x, y)
+				}
 			}
 			natural.Cmp(a, b)
 			natural.Bits(a)
 			natural.Uint(a)
 			natural.Valid(a)
-			if !slices.Equal(a[:cap(a)], allA) || !slices.Equal(b[:cap(b)], allB) {
+			if !sample.Same(arguments, before) {
 				t.Fatalf("an argument was modified: %v, %v", a, b)
 			}
-		}
-	}
-}
-
-// testResults overwrites the results of a call and checks that no other result changes with them.
-func testResults(t *testing.T, results []api.Nat) {
-	t.Helper()
-	for i, n := range results {
-		var others []api.Nat
-		for _, other := range results[i+1:] {
-			others = append(others, slices.Clone(other))
-		}
-		overwrite(n)
-		for k, other := range results[i+1:] {
-			equal(t, "another result", other, others[k])
 		}
 	}
 }

@@ -64,21 +64,12 @@ func canon(x api.Rat) api.Rat {
 
 // limbs returns the canonical limbs of the absolute value of a number.
 func limbs(v *big.Int) api.Nat {
-	var out api.Nat
-	for rest := new(big.Int).Abs(v); rest.Sign() > 0; rest.Rsh(rest, 32) {
-		out = append(out, uint32(rest.Uint64()))
-	}
-	return out
+	return sample.Limbs(v.Bytes())
 }
 
 // magnitude returns the number of limbs, by the definition.
 func magnitude(n api.Nat) *big.Int {
-	v := new(big.Int)
-	for _, x := range slices.Backward(n) {
-		v.Lsh(v, 32)
-		v.Add(v, new(big.Int).SetUint64(uint64(x)))
-	}
-	return v
+	return new(big.Int).SetBytes(sample.Bytes(n))
 }
 
 // value returns a number, by the definition.

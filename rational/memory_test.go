@@ -1,11 +1,11 @@
 package rational_test
 
 import (
-	"slices"
 	"testing"
 
 	"relucert/api"
 	"relucert/rational"
+	"relucert/sample"
 )
 
 // calls calls all functions and returns the numbers that they return; an integer is the numerator of one, and a natural number its denominator.
@@ -25,22 +25,9 @@ func calls(a, b api.Rat) []api.Rat {
 
 // spare returns a number in slices with capacity behind them that contains other limbs.
 func spare(x api.Rat) api.Rat {
-	x.Num = append(slices.Clone(x.Num), 11, 12, 13)[:len(x.Num)]
-	x.Den = append(slices.Clone(x.Den), 14, 15, 16)[:len(x.Den)]
+	x.Num = sample.Spare(x.Num)
+	x.Den = sample.Spare(x.Den)
 	return x
-}
-
-// whole returns a copy of all the memory of a number, with the spare capacity.
-func whole(x api.Rat) api.Rat {
-	return api.Rat{Neg: x.Neg, Num: slices.Clone(x.Num[:cap(x.Num)]), Den: slices.Clone(x.Den[:cap(x.Den)])}
-}
-
-// overwrite changes all the memory of a slice.
-func overwrite(n api.Nat) {
-	n = n[:cap(n)]
-	for i := range n {
-		n[i] ^= 0x5a5a5a5a
-	}
 }
 
 // eachPair calls test for pairs of numbers that are in part not canonical.
@@ -57,12 +44,13 @@ func eachPair(test func(a, b api.Rat)) {
 // Arguments are not modified, including the spare capacity of slices (rule 5), and a second call returns the same (rule 6).
 func TestArgumentsAndState(t *testing.T) {
 	eachPair(func(a, b api.Rat) {
-		allA, allB := whole(a), whole(b)
+		arguments := []api.Nat{a.Num, a.Den, b.Num, b.Den}
+		before := sample.Copies(arguments)
 		first := calls(a, b)
 		for i, x := range calls(a, b) {
 			equal(t, "second call", x, first[i])
 		}
-		if !same(whole(a), allA) || !same(whole(b), allB) {
+		if !sample.Same(arguments, before) {
 			t.Fatalf("an argument was modified: %v, %v", a, b)
 		}
 	})
@@ -71,31 +59,17 @@ func TestArgumentsAndState(t *testing.T) {
 // A result is new memory, which it shares neither with an argument nor with another result, and its slices share none (rule 7 of the language).
 func TestResultsAreNewMemory(t *testing.T) {
 	eachPair(func(a, b api.Rat) {
-		allA, allB := whole(a), whole(b)
+		arguments := []api.Nat{a.Num, a.Den, b.Num, b.Den}
+		before := sample.Copies(arguments)
 		var results []api.Nat
 		for _, x := range calls(a, b) {
 			results = append(results, x.Num, x.Den)
 		}
-		for i, n := range results {
-			later := copies(results[i+1:])
-			overwrite(n)
-			for k, other := range results[i+1:] {
-				if !slices.Equal(other, later[k]) {
-					t.Fatalf("results share memory: %v, %v", a, b)
-				}
-			}
+		if sample.Shared(results) {
+			t.Fatalf("results share memory: %v, %v", a, b)
 		}
-		if !same(whole(a), allA) || !same(whole(b), allB) {
+		if !sample.Same(arguments, before) {
 			t.Fatalf("a result shares memory with an argument: %v, %v", a, b)
 		}
 	})
-}
-
-// copies returns copies of slices.
-func copies(list []api.Nat) []api.Nat {
-	var out []api.Nat
-	for _, n := range list {
-		out = append(out, slices.Clone(n))
-	}
-	return out
 }

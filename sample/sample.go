@@ -1,4 +1,4 @@
-// Package sample makes numbers for the tests of the layers. No layer imports it.
+// Package sample makes numbers for the tests of the layers, and watches their memory. No layer imports it.
 package sample
 
 import "relucert/api"
