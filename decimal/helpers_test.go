@@ -3,7 +3,6 @@ package decimal_test
 import (
 	"math/big"
 	"regexp"
-	"slices"
 	"strings"
 	"testing"
 
@@ -81,11 +80,6 @@ func frac(t *testing.T, a, b int) api.Rat {
 	return x
 }
 
-// same reports whether two values are the same limbs with the same sign.
-func same(a, b api.Rat) bool {
-	return a.Neg == b.Neg && slices.Equal(a.Num, b.Num) && slices.Equal(a.Den, b.Den)
-}
-
 // parsed returns the number of a text without an error.
 func parsed(t *testing.T, s string) api.Rat {
 	t.Helper()
@@ -108,7 +102,7 @@ func expectValue(t *testing.T, s string, want *big.Rat) {
 func expectError(t *testing.T, s string, offset int, want api.Errno) {
 	t.Helper()
 	x, at, e := decimal.Parse(s)
-	if at != offset || e != want || !same(x, api.Rat{}) {
+	if at != offset || e != want || !sample.SameRat(x, api.Rat{}) {
 		t.Errorf("Parse of %q: got %v, offset %d, error %d, want offset %d, error %d", short(s), x, at, e, offset, want)
 	}
 }

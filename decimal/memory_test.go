@@ -12,7 +12,7 @@ import (
 // Arguments are not modified, including the spare capacity of slices (rule 5), and a second call returns the same (rule 6).
 func TestArgumentsAndState(t *testing.T) {
 	for _, x := range numbers() {
-		x.Num, x.Den = sample.Spare(x.Num), sample.Spare(x.Den)
+		x = sample.SpareRat(x)
 		arguments := []api.Nat{x.Num, x.Den}
 		before := sample.Copies(arguments)
 		text, places := decimal.Text(x), fixed(t, x, 12)
@@ -38,7 +38,7 @@ func TestParsedNumbersAreNewMemory(t *testing.T) {
 		sample.Overwrite(first.Den)
 		decimal.Parse("12x")
 		decimal.Parse("99/98")
-		if !same(second, want) || !same(parsed(t, s), want) {
+		if !sample.SameRat(second, want) || !sample.SameRat(parsed(t, s), want) {
 			t.Errorf("a call changes the number of %q", s)
 		}
 	}

@@ -15,7 +15,7 @@ import (
 // P4.2
 func TestNumbersFromTheirTexts(t *testing.T) {
 	for _, x := range numbers() {
-		if y := parsed(t, decimal.Text(x)); !same(x, y) {
+		if y := parsed(t, decimal.Text(x)); !sample.SameRat(x, y) {
 			t.Errorf("Parse of the text of %v: %v", x, y)
 		}
 	}
@@ -53,7 +53,7 @@ func TestTextsOfParsedNumbers(t *testing.T) {
 		{"-0", "0"}, {"-0/7", "0"}, {"-0.00", "0"}, {"0010", "10"}, {"-0010", "-10"}, {"6/4", "3/2"}, {"-06/04", "-3/2"}, {"8/4", "2"}, {"2.50", "5/2"}, {"-0.125", "-1/8"}, {"12.00", "12"}, {"1000000000/3000000000", "1/3"},
 	} {
 		y := parsed(t, x.text)
-		if s := decimal.Text(y); s != x.want || !same(parsed(t, s), y) {
+		if s := decimal.Text(y); s != x.want || !sample.SameRat(parsed(t, s), y) {
 			t.Errorf("Text of the number of %q: %q", x.text, s)
 		}
 	}
@@ -61,7 +61,7 @@ func TestTextsOfParsedNumbers(t *testing.T) {
 	for range 2000 {
 		s := sampleText(&r)
 		y := parsed(t, s)
-		if !same(parsed(t, decimal.Text(y)), y) {
+		if !sample.SameRat(parsed(t, decimal.Text(y)), y) {
 			t.Errorf("the text of the number of %q is %q", s, decimal.Text(y))
 		}
 	}
@@ -110,7 +110,7 @@ func TestExactDecimalFractions(t *testing.T) {
 		_, places, _ := strings.Cut(s, ".")
 		for _, more := range []int{0, 1, 9, 100} {
 			text := fixed(t, x, len(places)+more)
-			if !same(parsed(t, text), x) || len(places) > 0 && text != s+strings.Repeat("0", more) {
+			if !sample.SameRat(parsed(t, text), x) || len(places) > 0 && text != s+strings.Repeat("0", more) {
 				t.Errorf("Fixed of %s with %d more digits: %s", s, more, text)
 			}
 		}

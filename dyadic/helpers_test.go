@@ -122,16 +122,7 @@ func rat(v *big.Rat) api.Rat {
 
 // forms returns the canonical form of a rational number, and other values that denote it.
 func forms(v *big.Rat) []api.Rat {
-	x := rat(v)
-	out := []api.Rat{x, {Neg: x.Neg, Num: append(slices.Clone(x.Num), 0, 0), Den: append(slices.Clone(x.Den), 0)}}
-	for _, factor := range []*big.Int{big.NewInt(6), power(37), new(big.Int).Mul(power(64), big.NewInt(21))} {
-		num, den := new(big.Int).Mul(v.Num(), factor), new(big.Int).Mul(v.Denom(), factor)
-		out = append(out, api.Rat{Neg: x.Neg, Num: append(limbs(num), 0), Den: limbs(den)})
-	}
-	if v.Sign() == 0 {
-		out = append(out, api.Rat{Neg: true}, api.Rat{Neg: true, Num: api.Nat{0}, Den: api.Nat{0, 0}}, api.Rat{Neg: true, Den: api.Nat{12}})
-	}
-	return out
+	return sample.Forms(rat(v))
 }
 
 // made returns the canonical form of v times 2^exp, by the definition, and false if there is none.

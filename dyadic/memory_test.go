@@ -32,7 +32,7 @@ func eachCall(test func(a, b api.Dyadic, x api.Rat, arguments []api.Nat)) {
 			if i%3 == 0 {
 				x = rat(new(big.Rat).Mul(value(b), big.NewRat(5, 7)))
 			}
-			a.Mag, b.Mag, x.Num, x.Den = sample.Spare(a.Mag), sample.Spare(b.Mag), sample.Spare(x.Num), sample.Spare(x.Den)
+			a.Mag, b.Mag, x = sample.Spare(a.Mag), sample.Spare(b.Mag), sample.SpareRat(x)
 			test(a, b, x, []api.Nat{a.Mag, b.Mag, x.Num, x.Den})
 		}
 	}

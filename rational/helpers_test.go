@@ -84,35 +84,6 @@ func value(x api.Rat) *big.Rat {
 	return new(big.Rat).SetFrac(num, den)
 }
 
-// forms returns the canonical form of a number, and other values that denote it.
-func forms(x api.Rat) []api.Rat {
-	out := []api.Rat{x, {Neg: x.Neg, Num: zeros(x.Num), Den: zeros(x.Den)}}
-	for _, factor := range []string{"6", "4294967296", "36893488147419103233"} {
-		out = append(out, multiplied(x, factor))
-	}
-	if len(x.Den) == 0 {
-		for _, den := range []api.Nat{{}, {0}, {1}, {1, 0, 0}} {
-			out = append(out, api.Rat{Neg: x.Neg, Num: x.Num, Den: den})
-		}
-	}
-	if len(x.Num) == 0 {
-		out = append(out, api.Rat{Neg: true}, api.Rat{Neg: true, Num: api.Nat{0, 0}, Den: api.Nat{0, 5, 0}})
-	}
-	return out
-}
-
-// zeros returns limbs with limbs 0 at their end.
-func zeros(n api.Nat) api.Nat {
-	return append(slices.Clone(n), 0, 0)
-}
-
-// multiplied returns a number with a common divisor above and below the line, and limbs 0 at the end of its denominator.
-func multiplied(x api.Rat, factor string) api.Rat {
-	v, f := value(x), magnitude(number(factor).Num)
-	num, den := new(big.Int).Mul(v.Num(), f), new(big.Int).Mul(v.Denom(), f)
-	return api.Rat{Neg: x.Neg, Num: limbs(num), Den: zeros(limbs(den))}
-}
-
 // expect checks that a result is the canonical form of a number.
 func expect(t *testing.T, what string, got api.Rat, want *big.Rat) {
 	t.Helper()
@@ -122,14 +93,9 @@ func expect(t *testing.T, what string, got api.Rat, want *big.Rat) {
 // equal checks that two results are the same limbs with the same sign.
 func equal(t *testing.T, what string, got, want api.Rat) {
 	t.Helper()
-	if !same(got, want) {
+	if !sample.SameRat(got, want) {
 		t.Errorf("%s: got %v, want %v", what, got, want)
 	}
-}
-
-// same reports whether two values are the same limbs with the same sign.
-func same(a, b api.Rat) bool {
-	return a.Neg == b.Neg && slices.Equal(a.Num, b.Num) && slices.Equal(a.Den, b.Den)
 }
 
 // integral returns an integer.

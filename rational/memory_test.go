@@ -23,20 +23,13 @@ func calls(a, b api.Rat) []api.Rat {
 	}
 }
 
-// spare returns a number in slices with capacity behind them that contains other limbs.
-func spare(x api.Rat) api.Rat {
-	x.Num = sample.Spare(x.Num)
-	x.Den = sample.Spare(x.Den)
-	return x
-}
-
 // eachPair calls test for pairs of numbers that are in part not canonical.
 func eachPair(test func(a, b api.Rat)) {
 	for i, x := range numbers() {
 		for j, y := range numbers() {
-			a, b := forms(x), forms(y)
-			test(spare(a[j%len(a)]), spare(b[i%len(b)]))
-			test(spare(x), spare(y))
+			a, b := sample.Forms(x), sample.Forms(y)
+			test(sample.SpareRat(a[j%len(a)]), sample.SpareRat(b[i%len(b)]))
+			test(sample.SpareRat(x), sample.SpareRat(y))
 		}
 	}
 }

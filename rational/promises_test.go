@@ -20,7 +20,8 @@ func triples(test func(a, b, c api.Rat)) {
 	}
 	zero := api.Rat{Neg: true, Num: api.Nat{0}, Den: api.Nat{0, 2}}
 	for i, a := range list {
-		b := multiplied(list[(5*i+1)%len(list)], "12")
+		forms := sample.Forms(list[(5*i+1)%len(list)])
+		b := forms[i%len(forms)]
 		test(a, b, zero)
 		test(zero, a, b)
 		test(b, zero, a)
@@ -63,13 +64,13 @@ func TestTotalOrder(t *testing.T) {
 	for i, a := range list {
 		for j, b := range list {
 			want := big.NewInt(int64(i)).Cmp(big.NewInt(int64(j)))
-			for _, x := range forms(a) {
+			for _, x := range sample.Forms(a) {
 				if rational.Cmp(x, b) != want || rational.Cmp(b, x) != -want {
 					t.Errorf("Cmp of %v and %v: %d", x, b, rational.Cmp(x, b))
 				}
 			}
 		}
-		for _, x := range forms(a) {
+		for _, x := range sample.Forms(a) {
 			if rational.Sign(x) != rational.Cmp(x, api.Rat{}) {
 				t.Errorf("Sign of %v: %d", x, rational.Sign(x))
 			}
@@ -103,13 +104,13 @@ func TestOrderOfResults(t *testing.T) {
 func TestCanonicalForm(t *testing.T) {
 	test := func(a, b api.Rat) {
 		equals := value(a).Cmp(value(b)) == 0
-		if same(rational.Canon(a), rational.Canon(b)) != equals || (rational.Cmp(a, b) == 0) != equals {
+		if sample.SameRat(rational.Canon(a), rational.Canon(b)) != equals || (rational.Cmp(a, b) == 0) != equals {
 			t.Errorf("%v and %v: equal canonical forms %v, the same number %v", a, b, !equals, equals)
 		}
 	}
 	for _, x := range numbers() {
-		for _, a := range forms(x) {
-			for _, b := range forms(x) {
+		for _, a := range sample.Forms(x) {
+			for _, b := range sample.Forms(x) {
 				test(a, b)
 			}
 			for _, y := range numbers() {

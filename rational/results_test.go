@@ -8,6 +8,7 @@ import (
 
 	"relucert/api"
 	"relucert/rational"
+	"relucert/sample"
 )
 
 // The tests of this file belong to P3.1: every function returns the specified result. Those of Simplest have a file of their own.
@@ -48,9 +49,9 @@ func testQuotient(t *testing.T, what string, got api.Rat, e api.Errno, x, y *big
 
 func TestCanonAndValid(t *testing.T) {
 	for _, x := range numbers() {
-		for _, form := range forms(x) {
+		for _, form := range sample.Forms(x) {
 			equal(t, "Canon", rational.Canon(form), x)
-			if rational.Valid(form) != same(form, x) {
+			if rational.Valid(form) != sample.SameRat(form, x) {
 				t.Errorf("Valid of %v: %v", form, rational.Valid(form))
 			}
 		}
@@ -92,7 +93,7 @@ func TestOfAndFrac(t *testing.T) {
 func TestNumAndDen(t *testing.T) {
 	for _, x := range numbers() {
 		want := value(x)
-		for _, form := range forms(x) {
+		for _, form := range sample.Forms(x) {
 			equalInt(t, "Num", rational.Num(form), want.Num())
 			if den := rational.Den(form); !slices.Equal(den, limbs(want.Denom())) {
 				t.Errorf("Den of %v: %v", form, den)
@@ -107,14 +108,14 @@ func TestNumAndDen(t *testing.T) {
 func TestPairs(t *testing.T) {
 	for _, x := range numbers() {
 		for _, y := range numbers() {
-			for _, a := range forms(x) {
+			for _, a := range sample.Forms(x) {
 				testPair(t, a, y)
 				testPair(t, y, a)
 			}
 		}
 	}
-	for _, a := range forms(number("-7/2")) {
-		for _, b := range append(forms(number("3")), forms(api.Rat{})...) {
+	for _, a := range sample.Forms(number("-7/2")) {
+		for _, b := range append(sample.Forms(number("3")), sample.Forms(api.Rat{})...) {
 			testPair(t, a, b)
 			testPair(t, b, a)
 		}
@@ -147,7 +148,7 @@ func TestSingleNumbers(t *testing.T) {
 		v := value(x)
 		// Euclid's division by a positive number rounds down.
 		floor := new(big.Int).Div(v.Num(), v.Denom())
-		for _, form := range forms(x) {
+		for _, form := range sample.Forms(x) {
 			if rational.Sign(form) != v.Sign() {
 				t.Errorf("Sign of %v: %d", form, rational.Sign(form))
 			}
@@ -165,7 +166,7 @@ func TestFloor(t *testing.T) {
 		{"0", 0}, {"1/100", 0}, {"-1/100", -1}, {"99/100", 0}, {"-99/100", -1}, {"1", 1}, {"-1", -1}, {"7/2", 3}, {"-7/2", -4}, {"-3", -3}, {"-301/100", -4},
 		{"4294967297/4294967296", 1}, {"-4294967297/4294967296", -2}, {"-1/340282366920938463463374607431768211456", -1},
 	} {
-		for _, form := range forms(number(x.text)) {
+		for _, form := range sample.Forms(number(x.text)) {
 			equalInt(t, "Floor of "+x.text, rational.Floor(form), big.NewInt(x.want))
 		}
 	}

@@ -82,15 +82,15 @@ func TestSimplestOfForms(t *testing.T) {
 	for _, x := range []struct{ lo, hi, want string }{
 		{"3/10", "2/5", "1/3"}, {"-2/5", "-3/10", "-1/3"}, {"13/5", "31/10", "3"}, {"2", "2", "2"}, {"-5/3", "-5/3", "-5/3"}, {"0", "7", "0"}, {"-7/2", "0", "0"}, {"4294967297/4294967296", "3/2", "3/2"},
 	} {
-		for _, lo := range forms(number(x.lo)) {
-			for _, hi := range forms(number(x.hi)) {
+		for _, lo := range sample.Forms(number(x.lo)) {
+			for _, hi := range sample.Forms(number(x.hi)) {
 				equal(t, x.lo+" to "+x.hi, simplest(t, lo, hi), number(x.want))
 			}
 		}
 	}
-	for _, lo := range forms(number("1")) {
-		for _, hi := range append(forms(number("2/3")), forms(api.Rat{})...) {
-			if x, e := rational.Simplest(lo, hi); e != api.ErrRange || !same(x, api.Rat{}) {
+	for _, lo := range sample.Forms(number("1")) {
+		for _, hi := range append(sample.Forms(number("2/3")), sample.Forms(api.Rat{})...) {
+			if x, e := rational.Simplest(lo, hi); e != api.ErrRange || !sample.SameRat(x, api.Rat{}) {
 				t.Errorf("Simplest of %v and %v: %v, error %d", lo, hi, x, e)
 			}
 		}
@@ -99,7 +99,7 @@ func TestSimplestOfForms(t *testing.T) {
 
 func TestSimplestOfOneNumber(t *testing.T) {
 	for _, x := range numbers() {
-		for _, form := range forms(x) {
+		for _, form := range sample.Forms(x) {
 			equal(t, "Simplest of one number", simplest(t, form, x), x)
 			equal(t, "Simplest of one number", simplest(t, x, form), x)
 		}
