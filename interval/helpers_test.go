@@ -12,19 +12,10 @@ import (
 	"relucert/sample"
 )
 
-// number returns the canonical number of a text.
-func number(text string) api.Rat {
-	x, _, e := decimal.Parse(text)
-	if e != api.OK {
-		panic(text)
-	}
-	return x
-}
-
 // span returns the interval of the text of its ends, with a blank between them.
 func span(text string) api.Interval {
 	lo, hi, _ := strings.Cut(text, " ")
-	return api.Interval{Lo: number(lo), Hi: number(hi)}
+	return api.Interval{Lo: sample.Number(lo), Hi: sample.Number(hi)}
 }
 
 // show returns a text of an interval, for messages.
@@ -32,22 +23,13 @@ func show(i api.Interval) string {
 	return "[" + decimal.Text(i.Lo) + ", " + decimal.Text(i.Hi) + "]"
 }
 
-// numbers returns the numbers of texts.
-func numbers(texts ...string) []api.Rat {
-	var out []api.Rat
-	for _, text := range texts {
-		out = append(out, number(text))
-	}
-	return out
-}
-
 // few and many return canonical numbers of both signs, in increasing order.
 func few() []api.Rat {
-	return numbers("-7/2", "-1", "-1/3", "0", "2/5", "1", "3")
+	return sample.Numbers("-7/2", "-1", "-1/3", "0", "2/5", "1", "3")
 }
 
 func many() []api.Rat {
-	return numbers("-18446744073709551617/3", "-4294967296", "-7/2", "-1", "-1/3", "0", "1/4294967297", "2/5", "1", "4294967297/4294967296", "3", "99999999999999999999")
+	return sample.Numbers("-18446744073709551617/3", "-4294967296", "-7/2", "-1", "-1/3", "0", "1/4294967297", "2/5", "1", "4294967297/4294967296", "3", "99999999999999999999")
 }
 
 // pair is an interval whose ends have these positions in a list.
@@ -71,7 +53,7 @@ func pairs(list []api.Rat) []pair {
 func points(i api.Interval) []api.Rat {
 	width := rational.Sub(i.Hi, i.Lo)
 	out := []api.Rat{i.Lo, i.Hi}
-	for _, part := range numbers("1/7", "1/2", "4/5") {
+	for _, part := range sample.Numbers("1/7", "1/2", "4/5") {
 		out = append(out, rational.Add(i.Lo, rational.Mul(width, part)))
 	}
 	if rational.Sign(i.Lo)*rational.Sign(i.Hi) < 0 {
@@ -170,7 +152,7 @@ func operations() []operation {
 		unary("Neg", interval.Neg, rational.Neg),
 		unary("Relu", interval.Relu, relu),
 	}
-	for _, c := range numbers("0", "1", "-1", "3/2", "-5/7", "4294967296", "-1/18446744073709551615") {
+	for _, c := range sample.Numbers("0", "1", "-1", "3/2", "-5/7", "4294967296", "-1/18446744073709551615") {
 		scale := func(i api.Interval) api.Interval { return interval.Scale(i, c) }
 		list = append(list, unary("Scale by "+decimal.Text(c), scale, func(x api.Rat) api.Rat { return rational.Mul(x, c) }))
 	}

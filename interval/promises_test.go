@@ -98,7 +98,7 @@ func expectInside(t *testing.T, what string, got, previous api.Interval) {
 
 // P6.3, for the operations on sets. There is nothing in a part of nothing.
 func TestInclusionOfSets(t *testing.T) {
-	list := pairs(numbers("-1", "-1/3", "0", "2", "5/2"))
+	list := pairs(sample.Numbers("-1", "-1/3", "0", "2", "5/2"))
 	for _, a := range list {
 		for _, b := range list {
 			join := interval.Join(a.Interval, b.Interval)

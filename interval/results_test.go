@@ -135,7 +135,7 @@ func TestScale(t *testing.T) {
 		{"1 2", "3", "3 6"}, {"1 2", "-3", "-6 -3"}, {"1 2", "0", "0 0"}, {"-1 2", "1/2", "-1/2 1"}, {"-1 2", "-1/2", "-1 1/2"}, {"-1 2", "0", "0 0"}, {"-4 -2/3", "3/2", "-6 -1"}, {"-4 -2/3", "-3/2", "1 6"},
 		{"0 0", "-7", "0 0"}, {"0 5", "-1/5", "-1 0"}, {"-5 0", "1/5", "-1 0"}, {"5 5", "-1/5", "-1 -1"}, {"-1 1", "4294967296", "-4294967296 4294967296"},
 	} {
-		for _, c := range sample.Forms(number(x.c)) {
+		for _, c := range sample.Forms(sample.Number(x.c)) {
 			expect(t, x.i+" times "+x.c, interval.Scale(span(x.i), c), span(x.want))
 		}
 	}
@@ -207,15 +207,15 @@ func TestBitsOfRound(t *testing.T) {
 		}
 	}
 	expect(t, "Round to 1 bit", round(t, span("-3/7 1/3"), 1), span("-1/2 1/2"))
-	lo, hi := rational.Add(power(4095), number("1")), power(4096)
-	above, next := rational.Add(hi, number("1")), rational.Add(hi, number("2"))
+	lo, hi := rational.Add(power(4095), sample.Number("1")), power(4096)
+	above, next := rational.Add(hi, sample.Number("1")), rational.Add(hi, sample.Number("2"))
 	expect(t, "Round to 4096 bits", round(t, api.Interval{Lo: lo, Hi: above}, 4096), api.Interval{Lo: lo, Hi: next})
 	expect(t, "Round to 4096 bits", round(t, api.Interval{Lo: minus(above), Hi: lo}, 4096), api.Interval{Lo: minus(next), Hi: lo})
 }
 
 // An end that layer 5 cannot round is an error, whichever one it is.
 func TestRangeOfRound(t *testing.T) {
-	huge, one := power(1_000_000), number("1")
+	huge, one := power(1_000_000), sample.Number("1")
 	tiny, least := api.Rat{Num: one.Num, Den: power(1_000_001).Num}, api.Rat{Num: one.Num, Den: huge.Num}
 	for i, x := range []api.Interval{
 		{Hi: huge}, {Lo: one, Hi: huge}, {Lo: huge, Hi: huge}, {Lo: minus(huge)}, {Lo: minus(huge), Hi: one}, {Lo: minus(huge), Hi: huge},
